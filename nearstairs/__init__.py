@@ -1,0 +1,1 @@
+"""Nearstairs: small near rooms and greater far ones."""
