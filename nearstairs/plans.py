@@ -1,5 +1,7 @@
 """Plans: of one room, and of stairs of rooms."""
 
+from nearstairs.things import is_number
+
 MOST_SHELVES = 64
 MOST_PLACES = 16
 MOST_SIZE = 16
@@ -12,10 +14,7 @@ KINDS = ("within", "apart", "free")
 
 def is_count(thing, most):
     """Whether a thing is a number from 1 to most."""
-    # Python counts True and False among the whole numbers; a plan doesn't.
-    if isinstance(thing, bool) or not isinstance(thing, int):
-        return False
-    return 1 <= thing <= most
+    return is_number(thing) and 1 <= thing <= most
 
 
 def is_room_plan(thing):

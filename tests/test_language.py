@@ -25,6 +25,14 @@ OWN_NAMES = (
     "ZeroDivisionError ArithmeticError OverflowError RuntimeError NotImplementedError AttributeError StopIteration"
 ).split()
 PYTHONS_NAMES = set(dir(__import__("builtins")))
+TWO_UNDERSCORES = ["__init__", "__eq__", "__repr__", "__str__", "__len__"]
+
+# What Python's own values may be asked for; an error class's __init__ is called by its base's name.
+VALUES_METHODS = (
+    "append clear copy count endswith extend find get index insert isalnum isalpha isdigit islower isspace isupper "
+    "items join keys ljust lower lstrip partition pop remove replace reverse rfind rjust rpartition rsplit rstrip "
+    "setdefault split splitlines startswith strip update upper values zfill bit_length add discard sort __init__"
+).split()
 
 
 def package_files():
@@ -37,6 +45,29 @@ def trees():
 
 def nodes():
     return [(name, node) for name, tree in trees() for node in ast.walk(tree)]
+
+
+def own_methods():
+    classes = [node for name, node in nodes() if isinstance(node, ast.ClassDef)]
+    return {row.name for node in classes for row in node.body if isinstance(row, ast.FunctionDef)}
+
+
+def own_values():
+    return {node.attr for name, node in nodes() if isinstance(node, ast.Attribute) and isinstance(node.ctx, ast.Store)}
+
+
+def given_names(tree):
+    """The parameters and locals of a file's defs."""
+    defs = [node for node in ast.walk(tree) if isinstance(node, (ast.FunctionDef, ast.Lambda))]
+    inner = [node for one in defs for node in ast.walk(one)]
+    parameters = {node.arg for node in inner if isinstance(node, ast.arg)}
+    return parameters | {node.id for node in inner if isinstance(node, ast.Name) and isinstance(node.ctx, ast.Store)}
+
+
+def taken_names(tree):
+    """A file's classes and imports."""
+    drawn = {row.name for node in tree.body if isinstance(node, ast.ImportFrom) for row in node.names}
+    return drawn | {node.name for node in tree.body if isinstance(node, ast.ClassDef)}
 
 
 class Files(unittest.TestCase):
@@ -111,6 +142,45 @@ class Code(unittest.TestCase):
     def test_python_s_own_names(self):
         found = [(name, node.lineno, node.id) for name, node in nodes()
                  if isinstance(node, ast.Name) and node.id in PYTHONS_NAMES and node.id not in OWN_NAMES]
+        self.assertEqual(found, [])
+
+    def test_locals_are_called_like_nothing_else(self):
+        for name, tree in trees():
+            with self.subTest(name=name):
+                self.assertEqual(given_names(tree) & (taken_names(tree) | PYTHONS_NAMES), set())
+
+    def test_no_name_begins_with_an_underscore(self):
+        names = [(name, node.name) for name, node in nodes() if isinstance(node, (ast.FunctionDef, ast.ClassDef))]
+        names += [(name, called) for name, tree in trees() for called in given_names(tree)]
+        names += [("a value", called) for called in own_values()]
+        found = [(name, called) for name, called in names if called[0] == "_" and called not in TWO_UNDERSCORES]
+        self.assertEqual(found, [])
+
+    def test_no_name_is_a_method_and_a_value(self):
+        self.assertEqual(own_methods() & own_values(), set())
+
+    def test_what_is_asked_of_things(self):
+        known = own_methods() | own_values() | set(VALUES_METHODS)
+        found = [(name, node.lineno, node.attr) for name, node in nodes()
+                 if isinstance(node, ast.Attribute) and node.attr not in known]
+        self.assertEqual(found, [])
+
+    def test_what_is_deleted(self):
+        found = [(name, node.lineno) for name, node in nodes() if isinstance(node, ast.Delete)
+                 for target in node.targets if not isinstance(target, (ast.Name, ast.Subscript))]
+        self.assertEqual(found, [])
+
+    def test_no_two_files_draw_from_one_another(self):
+        draws = {name[:-3]: {node.module.split(".")[1] for node in tree.body if isinstance(node, ast.ImportFrom)}
+                 for name, tree in trees()}
+        while draws:
+            free = [name for name in draws if not draws[name] & set(draws)]
+            self.assertNotEqual(free, [], f"these draw from one another: {sorted(draws)}")
+            draws = {name: draws[name] for name in draws if name not in free}
+
+    def test_no_text_bears_a_percent_sign(self):
+        found = [(name, node.lineno) for name, node in nodes()
+                 if isinstance(node, ast.Constant) and isinstance(node.value, str) and "%" in node.value]
         self.assertEqual(found, [])
 
     def test_is_stands_beside_none_true_and_false_alone(self):
