@@ -24,12 +24,10 @@ class Room:
         """A board that isn't there comes; told is the board that goes for it, else None."""
         if self.has(board):
             raise There(f"board {board} is there already")
-        mates = self.mates(board)
-        out = None
-        if len(mates) >= self.places:
-            out = self.going(mates)[0]
+        out = self.leaver_for(board)
+        if out is not None:
             self.drop(out)
-        mates.append(board)
+        self.mates(board).append(board)
         self.uses[board] = 0
         return out
 
@@ -66,6 +64,13 @@ class Room:
     def mates(self, board):
         """The room's own list of the boards on this board's shelf."""
         return self.standing[shelf_of(self.shelves, board)]
+
+    def leaver_for(self, board):
+        """The board that goes where this one comes, None where its shelf isn't full."""
+        mates = self.mates(board)
+        if len(mates) < self.places:
+            return None
+        return self.going(mates)[0]
 
     def going(self, mates):
         """A new list of a shelf's boards, the next to go first."""
