@@ -43,9 +43,17 @@ class Store:
         """One word is put into a board's words."""
         self.held[board][at] = word
 
+    def is_fresh(self, board):
+        """Whether a board is changed here."""
+        return board in self.fresh
+
     def freshen(self, board):
         """A board is changed here from now on."""
         self.fresh[board] = True
+
+    def settle(self, board):
+        """A board that is changed here is changed no more."""
+        self.fresh.pop(board)
 
 
 class Memory:

@@ -1,4 +1,4 @@
-"""What several test files share: stairs reckoned by hand from the document's words, and drawn plans and deeds."""
+"""What several test files share: stairs and rooms beside each other, by hand, and drawn plans and deeds."""
 
 import random
 
@@ -184,6 +184,80 @@ class HandStairs:
         return events
 
 
+class HandBeside(HandStairs):
+    """Beside, with the questions of stairs: two near rooms, 0 and 1, and the far one, 2."""
+
+    def __init__(self, size, near, far):
+        HandStairs.__init__(self, (size, "beside", (near, near, far)))
+
+    def put_down(self, board, words):
+        events = self.put_words(2, board, words)
+        if self.late(2):
+            self.stairs[2][board].changed = True
+            return events
+        return events + self.put_words(3, board, words)
+
+    def goes_from_far(self, board):
+        froms = [2] + [k for k in [0, 1] if board in self.stairs[k]]
+        gone = [self.stairs[k].pop(board) for k in froms]
+        events = [("out", k, board) for k in froms]
+        changed = [lying for lying in gone[1:] + gone[:1] if lying.changed]
+        if changed:
+            events += self.put_words(3, board, changed[0].words)
+        return events
+
+    def goes_from_near(self, k, board):
+        lying = self.stairs[k].pop(board)
+        return [("out", k, board)] + (self.put_down(board, lying.words) if lying.changed else [])
+
+    def fetch_by(self, hand, board):
+        if board in self.stairs[hand]:
+            self.use(hand, board)
+            return [("found", hand)]
+        if board in self.stairs[2]:
+            self.use(2, board)
+            events = [("found", 2)]
+        else:
+            events = [("found", 3)]
+            other = self.next_to_go(2, board)
+            if other is not None:
+                events += self.goes_from_far(other)
+            events += self.come(2, board, self.words(3, board), False)
+        if board in self.changed(1 - hand):
+            events += self.put_down(board, self.words(1 - hand, board))
+            self.stairs[1 - hand][board].changed = False
+        other = self.next_to_go(hand, board)
+        if other is not None:
+            events += self.goes_from_near(hand, other)
+        return events + self.come(hand, board, self.words(2, board), False)
+
+    def read(self, hand, spot):
+        events = self.fetch_by(hand, spot // self.size)
+        return (self.words(hand, spot // self.size)[spot % self.size], events)
+
+    def write(self, hand, spot, word):
+        board = spot // self.size
+        events = self.fetch_by(hand, board)
+        if board in self.stairs[1 - hand]:
+            self.stairs[1 - hand].pop(board)
+            events.append(("out", 1 - hand, board))
+        lying = self.stairs[hand][board]
+        lying.words[spot % self.size] = word
+        if self.late(hand):
+            lying.changed = True
+            return events
+        return events + self.put_down(board, lying.words)
+
+    def emptied(self):
+        events = []
+        for k in [0, 1]:
+            for board in self.lies(k):
+                events += self.goes_from_near(k, board)
+        for board in self.lies(2):
+            events += self.goes_from_far(board)
+        return events
+
+
 def do_deed(stairs, deed):
     """A deed's events."""
     if deed[0] == "read":
@@ -199,6 +273,15 @@ def state_of(stairs, plan, boards):
     words = [[(board, stairs.words(k, board)) for board in stairs.lies(k)] for k in range(n)]
     remembered = [stairs.words(n, board) for board in boards]
     return [rooms, orders, words, remembered, stairs.memory()]
+
+
+def all_lists(thing):
+    """Every list in a thing, at any depth."""
+    found = [thing] if isinstance(thing, list) else []
+    if isinstance(thing, (list, tuple)):
+        for part in thing:
+            found += all_lists(part)
+    return found
 
 
 def drawn_room(chance, shelves, places):

@@ -7,17 +7,9 @@ from nearstairs.rows import run_row
 from nearstairs.stairs import Stairs
 
 from by_hand import (
-    GREAT_WORD, KINDS, RULES, WRITINGS, HandStairs, do_deed, drawn_boards, drawn_deeds, drawn_plans, state_of,
+    GREAT_WORD, KINDS, RULES, WRITINGS, HandStairs, all_lists, do_deed, drawn_boards, drawn_deeds, drawn_plans,
+    state_of,
 )
-
-
-def all_lists(thing):
-    """Every list in a thing, at any depth."""
-    found = [thing] if isinstance(thing, list) else []
-    if isinstance(thing, (list, tuple)):
-        for part in thing:
-            found += all_lists(part)
-    return found
 
 
 class Drawn(unittest.TestCase):
@@ -30,17 +22,17 @@ class Drawn(unittest.TestCase):
 class AgainstTheHand(Drawn):
     def check_run(self, plan, deeds, boards):
         stairs, hand = Stairs(plan), HandStairs(plan)
-        for at, deed in enumerate(deeds):
-            done = f"{plan}, deed {at} of {deeds}"
+        run = f"{plan}, {deeds}"
+        for deed in deeds:
             if deed[0] == "empty":
-                self.same(stairs.emptied(), hand.emptied(), done)
+                self.same(stairs.emptied(), hand.emptied(), run)
             elif deed[0] == "read":
-                self.same(stairs.read(deed[1]), hand.read(deed[1]), done)
+                self.same(stairs.read(deed[1]), hand.read(deed[1]), run)
             else:
-                self.same(stairs.write(deed[1], deed[2]), hand.write(deed[1], deed[2]), done)
-            self.same(state_of(stairs, plan, boards), state_of(hand, plan, boards), done)
-        self.same(stairs.emptied(), hand.emptied(), f"{plan}, emptied behind {deeds}")
-        self.same(state_of(stairs, plan, boards), state_of(hand, plan, boards), f"{plan}, emptied behind {deeds}")
+                self.same(stairs.write(deed[1], deed[2]), hand.write(deed[1], deed[2]), run)
+            self.same(state_of(stairs, plan, boards), state_of(hand, plan, boards), run)
+        self.same(stairs.emptied(), hand.emptied(), run)
+        self.same(state_of(stairs, plan, boards), state_of(hand, plan, boards), run)
 
     def test_few_shelves(self):
         chance = random.Random(11)
@@ -135,59 +127,64 @@ class Promised(Drawn):
 
     def test_each_read_tells_the_last_word_written(self):
         for plan, deeds in self.runs():
+            run = f"{plan}, {deeds}"
             stairs, book = Stairs(plan), {}
             for deed in deeds:
                 if deed[0] == "read":
-                    self.same(stairs.read(deed[1])[0], book.get(deed[1], 0), f"{plan}, {deeds}")
+                    self.same(stairs.read(deed[1])[0], book.get(deed[1], 0), run)
                 else:
                     stairs.write(deed[1], deed[2])
                     book[deed[1]] = deed[2]
             for spot in sorted(book) + [7]:
-                self.same(stairs.read(spot)[0], book.get(spot, 0), f"{plan}, {deeds}")
+                self.same(stairs.read(spot)[0], book.get(spot, 0), run)
 
     def test_behind_emptied(self):
         for plan, deeds in self.runs():
+            run = f"{plan}, {deeds}"
             stairs = Stairs(plan)
             for deed in deeds:
                 do_deed(stairs, deed)
             stairs.emptied()
             for k in range(len(plan[2])):
-                self.same((stairs.lies(k), stairs.changed(k)), ([], []), f"{plan}, {deeds}")
+                self.same((stairs.lies(k), stairs.changed(k)), ([], []), run)
             pairs = sorted((spot, word) for spot, word in self.book_of(deeds).items() if word != 0)
-            self.same(stairs.memory(), pairs, f"{plan}, {deeds}")
-            self.same(stairs.emptied(), [], f"{plan}, {deeds}")
+            self.same(stairs.memory(), pairs, run)
+            self.same(stairs.emptied(), [], run)
             for spot, word in pairs[:9]:
-                self.same(stairs.read(spot)[0], word, f"{plan}, {deeds}")
+                self.same(stairs.read(spot)[0], word, run)
 
     def test_within_what_lies_in_a_stair_lies_in_the_next(self):
         for plan, deeds in self.runs():
+            run = f"{plan}, {deeds}"
             if plan[1] != "within":
                 continue
             stairs = Stairs(plan)
             for deed in deeds:
                 do_deed(stairs, deed)
                 rooms = [set(stairs.lies(k)) for k in range(len(plan[2]))]
-                self.assertTrue(all(near <= far for near, far in zip(rooms, rooms[1:])), f"{plan}, {deeds}")
+                self.assertTrue(all(near <= far for near, far in zip(rooms, rooms[1:])), run)
 
     def test_apart_no_board_lies_in_two_stairs(self):
         for plan, deeds in self.runs():
+            run = f"{plan}, {deeds}"
             if plan[1] != "apart":
                 continue
             stairs = Stairs(plan)
             for deed in deeds:
                 do_deed(stairs, deed)
                 boards = [board for k in range(len(plan[2])) for board in stairs.lies(k)]
-                self.assertEqual(len(boards), len(set(boards)), f"{plan}, {deeds}")
+                self.assertEqual(len(boards), len(set(boards)), run)
 
     def test_changed_ones_lie_there_and_through_rooms_have_none(self):
         for plan, deeds in self.runs():
+            run = f"{plan}, {deeds}"
             stairs = Stairs(plan)
             for deed in deeds:
                 do_deed(stairs, deed)
                 for k, room in enumerate(plan[2]):
                     changed = stairs.changed(k)
-                    self.assertEqual(changed, sorted(set(changed) & set(stairs.lies(k))), f"{plan}, {deeds}")
-                    self.assertFalse(changed and room[3] == "through", f"{plan}, {deeds}")
+                    self.assertEqual(changed, sorted(set(changed) & set(stairs.lies(k))), run)
+                    self.assertFalse(changed and room[3] == "through", run)
 
     def test_great_words_and_noughts(self):
         for kind in KINDS:
